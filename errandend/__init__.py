@@ -1,0 +1,1 @@
+"""Errandend: errands over trees that send one another, told to end or left unsettled."""

@@ -1,4 +1,4 @@
-"""The rules of LANGUAGE.md that can be seen in a file's form, held against every file of the package."""
+"""Some of the rules of LANGUAGE.md, those that are easily seen in a file's form, held against the whole package."""
 
 import ast
 import builtins

@@ -57,7 +57,7 @@ def refuse_wrong(saying, params, counts):
         refuse_missing(saying[1], params)
     elif saying[0] == "send":
         refuse_missing(saying[1], counts)
-        refuse_miscounted(saying, counts[saying[1]])
+        refuse_miscounted(saying[1], saying[2], counts[saying[1]])
 
 
 def refuse_missing(name, known):
@@ -65,8 +65,7 @@ def refuse_missing(name, known):
         raise NoSuch(f"there is no {name} here")
 
 
-def refuse_miscounted(send, needed):
-    name = send[1]
-    given = len(send[2])
+def refuse_miscounted(name, row, needed):
+    given = len(row)
     if given != needed:
         raise WrongCount(f"{name} needs {needed}, not {given}")

@@ -27,6 +27,8 @@ METHODS = set(
     "items join keys ljust lower lstrip partition pop remove replace reverse rfind rjust rpartition rsplit rstrip "
     "setdefault split splitlines startswith strip update upper values zfill bit_length".split()
 )
+# Those that walk the first thing handed to them on the spot.
+WALKERS = ("list", "tuple", "dict", "sorted", "sum", "any", "all", "enumerate", "zip", "min", "max")
 BARRED_WORDS = (
     r"\b(type|typing|typing_extensions|enum|Enum|IntEnum|StrEnum|Flag|IntFlag|Generic|Protocol|ABC|ABCMeta|namedtuple"
     r"|NamedTuple|TypedDict|TYPE_CHECKING|abstractmethod)\b|dataclass|overload|contextmanager"
@@ -172,6 +174,63 @@ class TestLanguage(unittest.TestCase):
                 self.assertLessEqual(len(node.bases), 1)
                 for part in node.body:
                     self.assertIsInstance(part, (ast.FunctionDef, ast.Pass))
+
+        self.check_each_file(check)
+
+    def test_no_parameter_or_local_is_called_like_a_class_or_an_import_of_its_file(self):
+        def check(text, tree):
+            taken = [alias.name for node in parts_of(tree, ast.ImportFrom) for alias in node.names]
+            taken += [node.name for node in parts_of(tree, ast.ClassDef)]
+            names = [node.arg for node in parts_of(tree, ast.arg)]
+            names += [node.id for node in parts_of(tree, ast.Name) if isinstance(node.ctx, ast.Store)]
+            self.assertEqual(set(taken) & set(names), set())
+
+        self.check_each_file(check)
+
+    def test_no_two_files_draw_from_one_another(self):
+        drawn = {}
+        for stem, _, tree in read_package():
+            drawn["errandend." + stem] = {node.module for node in parts_of(tree, ast.ImportFrom)}
+        while drawn:
+            free = [module for module in drawn if not drawn[module] & set(drawn)]
+            self.assertNotEqual(free, [], "a round of imports")
+            for module in free:
+                del drawn[module]
+
+    def test_what_is_walked_is_walked_at_once(self):
+        def check(text, tree):
+            walked = [node.iter for node in parts_of(tree, (ast.For, ast.comprehension))]
+            for node in parts_of(tree, ast.Call):
+                if isinstance(node.func, ast.Name) and node.func.id in WALKERS:
+                    walked.extend(node.args[:1])
+            for node in parts_of(tree, ast.Call):
+                called = node.func.id if isinstance(node.func, ast.Name) else getattr(node.func, "attr", None)
+                if called in ("zip", "enumerate", "reversed", "range", "items", "keys", "values"):
+                    self.assertIn(node, walked)
+
+        self.check_each_file(check)
+
+    def test_methods_are_called_where_they_stand(self):
+        methods = set(METHODS)
+        given = set()
+        for _, _, tree in read_package():
+            for node in parts_of(tree, ast.ClassDef):
+                methods.update(part.name for part in node.body if isinstance(part, ast.FunctionDef))
+            given.update(node.attr for node in parts_of(tree, ast.Attribute) if isinstance(node.ctx, ast.Store))
+        self.assertEqual(methods & given, set())
+
+        def check(text, tree):
+            called = [node.func for node in parts_of(tree, ast.Call)]
+            for node in parts_of(tree, ast.Attribute):
+                self.assertTrue(node.attr in given or node in called)
+
+        self.check_each_file(check)
+
+    def test_errors_that_are_taken_are_the_packages_own(self):
+        def check(text, tree):
+            imported = [alias.name for node in parts_of(tree, ast.ImportFrom) for alias in node.names]
+            for node in parts_of(tree, ast.ExceptHandler):
+                self.assertIn(node.type.id, imported)
 
         self.check_each_file(check)
 

@@ -5,36 +5,7 @@ import unittest
 
 from errandend.errors import NoSuch, Twice, WrongCount
 from errandend.sayings import looked, sends
-
-BUD = ("bud",)
-
-
-def name(word):
-    return ("name", word)
-
-
-def pair(one, other):
-    return ("pair", one, other)
-
-
-def left(saying):
-    return ("left", saying)
-
-
-def right(saying):
-    return ("right", saying)
-
-
-def fork(one, other, last):
-    return ("fork", one, other, last)
-
-
-def send(word, *sayings):
-    return ("send", word, sayings)
-
-
-A = name("a")
-B = name("b")
+from helper import A, B, BUD, fork, left, name, pair, right, send
 
 # app a b: {a [<a app(>a b)] b}
 APP = ("app", ("a", "b"), fork(A, pair(left(A), send("app", right(A), B)), B))

@@ -5,6 +5,7 @@ import unittest
 
 from errandend.errors import BadText
 from errandend.trees import read_tree, shown_tree, size
+from helper import bushy_tree, left_tree, right_tree
 
 ONE = (None, None)
 
@@ -21,27 +22,6 @@ KNOWN = [
     (((None, ONE), None), 3, "[[- [- -]] -]"),
     (((ONE, None), (None, ONE)), 5, "[[[- -] -] [- [- -]]]"),
 ]
-
-
-def left_tree(pairs):
-    tree = None
-    for _ in range(pairs):
-        tree = (tree, None)
-    return tree
-
-
-def right_tree(pairs):
-    tree = None
-    for _ in range(pairs):
-        tree = (None, tree)
-    return tree
-
-
-def bushy_tree(pairs):
-    if pairs == 0:
-        return None
-    ahead = (pairs - 1) // 2
-    return (bushy_tree(ahead), bushy_tree(pairs - 1 - ahead))
 
 
 def left_text(pairs):
